@@ -1,0 +1,89 @@
+"""The reckoning of worths of heaps, by their definition."""
+
+from freetakes.rules import Fixed
+
+
+def least_missing(worths):
+    """The least integer from 0 on that is none of these worths."""
+    seen = set(worths)
+    worth = 0
+    while worth in seen:
+        worth = worth + 1
+    return worth
+
+
+def worths_below(book, count):
+    """The list of the worths of the heaps 0 to count - 1.
+
+    One worth after the other is given to all heaps that have it. So a heap that still waits for its
+    worth leaves all worths that were given ahead.
+    """
+    early, later = sources(book, count)
+    found = [0] * count
+    waiting = (1 << count) - 1
+    worth = 0
+    while waiting:
+        heaps = heaps_of_next_worth(waiting, early, later)
+        given = 0
+        for heap in heaps:
+            found[heap] = worth
+            given = given | (1 << heap)
+        waiting = waiting ^ given
+        worth = worth + 1
+    return found
+
+
+def heaps_of_next_worth(waiting, early, later):
+    """Those of the waiting heaps (the bits of a number) that have the least worth which was not given.
+
+    The least one that waits has it; then each one from which this heap is left has another one; of
+    the other ones again the least one has it, and so on.
+    """
+    heaps = []
+    heap = -1
+    while waiting:
+        step = (waiting & -waiting).bit_length()
+        waiting = waiting >> step
+        heap = heap + step
+        heaps.append(heap)
+        leaving = early[heap] if heap < len(early) else later[heap % len(later)]
+        waiting = waiting & ~leaving
+    return heaps
+
+
+def sources(book, count):
+    """From which heaps a heap is left: bit k stands for the heap that is k + 1 greater.
+
+    The first list has such bits for the least heaps, up to the greatest leave and place of the book;
+    the second one has them for all other heaps, by the rest of the book's modulus. Bits for heaps
+    from count on may lack.
+    """
+    by_leave = {}
+    by_place = {}
+    for rule in book.rules:
+        if isinstance(rule, Fixed):
+            by_leave.setdefault(rule.leave, []).append(rule)
+        else:
+            by_place.setdefault(rule.to, []).append(rule)
+    early = []
+    later = [0] * book.modulus
+    for heap in range(max([int(place) for place in [*by_leave, *by_place]], default=-1) + 1):
+        for rule in by_leave.get(heap, []):
+            for rest in range(book.modulus):
+                if (rest + rule.size) % rule.modulus == rule.rest:
+                    later[rest] = later[rest] | (1 << (rule.size - 1))
+        bits = later[heap % book.modulus]
+        for rule in by_place.get(heap, []):
+            bits = bits | (each_nth(rule.modulus, count) << ((rule.rest - rule.start) % rule.modulus))
+        early.append(bits)
+    return early, later
+
+
+def each_nth(n, count):
+    """The number with the bits 0, n, 2 * n and so on, at least all of these below count."""
+    bits = 1
+    width = n
+    while width < count:
+        bits = bits | (bits << width)
+        width = width * 2
+    return bits

@@ -1,0 +1,159 @@
+"""Tables of worths: the worths of the first heaps, and those that come again behind them."""
+
+from math import lcm
+
+from freetakes.bounds import check_size, is_number
+from freetakes.errors import BadNumber, BadTable, BadText, TooMany
+from freetakes.reckon import worths_below
+from freetakes.walks import marked_heaps
+from freetakes.words import number_of
+
+MOST_WORTH = 400
+MOST_WORTHS = 20000
+
+
+class Table:
+    """The worths of all heaps, in their least form."""
+
+    MOST = 1000
+
+    def __init__(self, begin, period, numbers):
+        check_parts(begin, period, numbers)
+        told = list(numbers)
+        again = least_period(told[begin:])
+        while begin > 0 and told[begin - 1] == told[begin - 1 + again]:
+            begin = begin - 1
+        self.begin = begin
+        self.period = again
+        self.numbers = tuple(told[:begin + again])
+
+    @classmethod
+    def read(cls, text):
+        """The table with this text, which need not be in least form."""
+        if not isinstance(text, str):
+            raise BadText(0, 0)
+        words = text.split(" ")
+        wrong = wrong_place(words)
+        if wrong is not None:
+            raise BadText(0, wrong)
+        begin = words.index("|")
+        numbers = [int(word) for word in words if word != "|"]
+        return Table(begin, len(numbers) - begin, numbers)
+
+    def __eq__(self, other):
+        return (isinstance(other, Table) and self.begin == other.begin
+                and self.period == other.period and self.numbers == other.numbers)
+
+    def __str__(self):
+        words = [str(number) for number in self.numbers]
+        return " ".join([*words[:self.begin], "|", *words[self.begin:]])
+
+    def __getitem__(self, at):
+        check_size(at)
+        if at < self.begin:
+            return self.numbers[at]
+        return self.numbers[self.begin + (at - self.begin) % self.period]
+
+    def __call__(self, n):
+        """The worth of the heap n."""
+        return self[n]
+
+    def __iter__(self):
+        raise TypeError("the worths of a table have no end")
+
+    @property
+    def highest(self):
+        """The greatest worth."""
+        return max([int(number) for number in self.numbers])
+
+    def heaps_of(self, worth, first=0):
+        """The heaps that have this worth, ascending, from the heap first on."""
+        if not is_number(worth, 0, MOST_WORTH):
+            raise BadNumber(worth)
+        check_size(first)
+        ahead = [number == worth for number in self.numbers[:self.begin]]
+        again = [number == worth for number in self.numbers[self.begin:]]
+        yield from marked_heaps(ahead, again, first)
+
+    def first_worths(self, count):
+        """The list of the worths of the heaps 0 to count - 1."""
+        rounds = max(0, count - self.begin) // self.period
+        told = self.numbers + self.numbers[self.begin:] * rounds
+        return list(told[:count])
+
+
+def check_parts(begin, period, numbers):
+    """Raise BadTable for the first of these values that is wrong."""
+    if not is_number(begin, 0, Table.MOST):
+        raise BadTable("begin")
+    if not is_number(period, 1, Table.MOST):
+        raise BadTable("period")
+    if not isinstance(numbers, (list, tuple)) or len(numbers) != begin + period:
+        raise BadTable("numbers")
+    if not all([is_number(number, 0, MOST_WORTH) for number in numbers]) or numbers[0] != 0:
+        raise BadTable("numbers")
+
+
+def least_period(again):
+    """The least period with which the worths of this list, which come again, come again."""
+    period = 1
+    while again[:period] * (len(again) // period) != again:
+        period = period + 1
+    return period
+
+
+def wrong_place(words):
+    """The index of the first of these words that cannot stand in a table, or their number if one lacks; else None."""
+    many = 0
+    bar = None
+    for at, word in enumerate(words):
+        # Heap 0 has no take: the first worth, also if it stands behind the bar, is 0.
+        most = 0 if at == 0 or (at == 1 and bar == 0) else MOST_WORTH
+        if word == "|" and bar is None:
+            bar = at
+            many = 0
+        elif many < Table.MOST and number_of(word, 0, most) is not None:
+            many = many + 1
+        else:
+            return at
+    return len(words) if bar is None or many == 0 else None
+
+
+def worths(book, n):
+    """The list of the worths of the heaps 0 to n - 1 by a book."""
+    if not is_number(n, 0, MOST_WORTHS):
+        raise BadNumber(n)
+    return worths_below(book, n)
+
+
+def table_of(book, most=1000):
+    """The table of a book, if its begin and period are not above most together."""
+    if not is_number(most, 1, Table.MOST):
+        raise BadNumber(most)
+    told = worths_below(book, 2 * most)
+    period = fitting_period(told, most)
+    if period is not None:
+        table = Table(most - period, period, told[:most])
+        end = end_of_looking(book, table)
+        if table.first_worths(end) == worths_below(book, end):
+            return table
+    raise TooMany("heaps", most)
+
+
+def fitting_period(told, most):
+    """The least period of 2 * most worths that comes, with its begin, to at most most; None if there is none.
+
+    It alone has to be tried: each other such period is a multiple of it, since both come again often
+    enough here to have a common measure that fits, too; and where it fails further on, its multiples
+    fail as well.
+    """
+    for period in range(1, most + 1):
+        if told[most - period:2 * most - period] == told[most:]:
+            return period
+    return None
+
+
+def end_of_looking(book, table):
+    """The heap below which a table must be right to be the book's: behind it, all heaps are like earlier ones."""
+    behind = table.begin + book.reach
+    return max(int(book.start), behind) + lcm(table.period, book.modulus)

@@ -1,0 +1,63 @@
+"""What the tests share: any values, and the checking of errors."""
+
+import unittest
+
+from freetakes import errors
+from freetakes.books import Book
+from freetakes.errors import BadRule, BadText, FreeError
+from freetakes.rules import Down, Fixed
+from freetakes.tables import Table
+
+BIG = 10 ** 30
+
+FIELDS = {
+    "BadRule": ("part",), "BadBook": ("at",), "BadSize": ("value",), "BadTable": ("part",),
+    "BadSizes": ("part",), "BadNumber": ("value",), "NoTake": ("number",), "NoPile": ("index",),
+    "NotFree": ("rule",), "Meets": ("heap", "left"), "Needed": ("rule",), "Lacks": ("heap", "worth"),
+    "NotIn": ("rule",), "Nothing": (), "BadLimit": ("value",), "TooMany": ("what", "most"),
+    "BadText": ("line", "word"), "NoLine": ("word",),
+}
+
+
+def no_integers():
+    """Values of all kinds but integers."""
+    return [
+        None, True, False, "", "0", "1", "400", "fixed 1", "down 0", "| 0", "a\nb", "x" * 2000, (), (0,), (1, 2),
+        [], [0], [1, [2, (3, {})]], {}, {0: 1}, {"size": [1]}, Fixed(1), Fixed(4, 1, 3, 2), Down(0), Book(),
+        Book(Fixed(1)), Table(0, 1, [0]), BadRule("size"), BadText(0, 0),
+    ]
+
+
+def beyond(least, most):
+    """Values that are no integers from least to most: integers just below and above, far ones, other kinds."""
+    return [least - 1, least - 1000, -10 ** 39, most + 1, most * 2 + 5, 10 ** 39, *no_integers()]
+
+
+def no_heaps():
+    return beyond(0, BIG)
+
+
+def no_rules():
+    return [value for value in [*no_integers(), 0, 1, -5, 10 ** 39] if not isinstance(value, (Fixed, Down))]
+
+
+class Case(unittest.TestCase):
+    def raised(self, kind, fields, call, *args, **named):
+        """Check that the call raises an error of just this class with just these fields."""
+        with self.assertRaises(FreeError) as caught:
+            call(*args, **named)
+        error = caught.exception
+        self.assertIs(type(error), getattr(errors, kind), (args, named))
+        self.assertEqual(len(FIELDS[kind]), len(fields))
+        for name, wanted in zip(FIELDS[kind], fields):
+            got = getattr(error, name)
+            self.assertIs(type(got), type(wanted), (kind, name, got, args, named))
+            self.assertTrue(got is wanted or got == wanted, (kind, name, got, wanted, args, named))
+
+    def exactly(self, got, wanted):
+        """Check for equal values of equal kinds, also within lists and tuples."""
+        self.assertEqual(got, wanted)
+        self.assertIs(type(got), type(wanted), (got, wanted))
+        if isinstance(wanted, (list, tuple)):
+            for mine, yours in zip(got, wanted):
+                self.exactly(mine, yours)

@@ -1,0 +1,153 @@
+"""The examples of the document, each with the value or the error that is shown there, in its order."""
+
+import unittest
+
+from cases import FIELDS
+from freetakes.errors import FreeError
+
+RULES = """
+>>> from freetakes.rules import Down, Fixed, Rule
+>>> four, whole = Fixed(4, 1, 3, leave=2), Down(0, 1, 3)
+>>> [str(four), str(whole), four.start, whole.start, str(four.leaving(0))]
+['fixed 4 rest 1 of 3 leave 2', 'down 0 rest 1 of 3', 6, 1, 'fixed 4 rest 1 of 3']
+>>> [four.stands_at(4), four.stands_at(7), four.left_at(7), whole.taken_at(7), whole.stands_at(6)]
+[False, True, 3, 7, False]
+>>> [Rule.read("fixed 2 leave 5") == Fixed(2, leave=5), Fixed(2) == Fixed(2, 0, 2)]
+[True, False]
+>>> four.left_at(4)
+raises NoTake(4)
+>>> Fixed(0, 9, 3)
+raises BadRule('size')
+>>> Rule.read("fixed 4 rest 2 of 2")
+raises BadText(0, 5)
+>>> Rule.read("down 0 leave 1")
+raises BadText(0, 2)
+"""
+
+BOOKS = """
+>>> from freetakes.books import Book
+>>> book = Book(four, Fixed(1), whole, Fixed(1))
+>>> [str(book), len(book), book.modulus, book.start, book.reach]
+['fixed 1, fixed 4 rest 1 of 3 leave 2, down 0 rest 1 of 3', 3, 3, 6, 4]
+>>> [book.takes(7), book.lefts(7), book.takes(6), book.takes(0), Fixed(1) in book, 1 in book]
+[(1, 4, 7), (0, 3, 6), (1,), (), True, False]
+>>> pair = Book.plain(2)
+>>> [str(pair ^ Book(Fixed(2), Fixed(3))), str(pair - Fixed(1)), str(pair & Book()), pair.is_part_of(pair | four)]
+['fixed 1, fixed 3', 'fixed 2', '-', True]
+>>> [pair(0), pair(5), pair(10 ** 30), Book.read("fixed 2, fixed 1, fixed 2") == pair]
+[0, 2, 1, True]
+>>> Book(Fixed(1, 0, 5), Fixed(1, 0, 3))
+raises TooMany('modulus', 12)
+>>> Book.read("fixed 1, down")
+raises BadText(0, 3)
+>>> Book.of([Fixed(1), "fixed 2"])
+raises BadBook(1)
+"""
+
+TABLES = """
+>>> from freetakes.books import Book
+>>> from freetakes.rules import Down, Fixed
+>>> from freetakes.tables import Table, table_of, worths
+>>> pair = Book(Fixed(1), Fixed(4))
+>>> table = table_of(pair)
+>>> [table.begin, table.period, table.numbers, table[7], table(10 ** 30), table.highest]
+[0, 5, (0, 1, 0, 1, 2), 0, 0, 2]
+>>> late = Book(Fixed(1, leave=2))
+>>> [worths(late, 6), str(table_of(late)), Table(3, 4, [0, 0, 0, 1, 0, 1, 0]) == table_of(late)]
+[[0, 0, 0, 1, 0, 1], '0 0 | 0 1', True]
+>>> str(table_of(Book(Fixed(1, 0, 3), Fixed(1, 1, 3), Fixed(1, 2, 3)), 2))
+'| 0 1'
+>>> [str(table_of(Book())), str(table_of(Book(Down(0)))), str(Table.read("0 1 | 1 1")), Table.read("| 0 1") == Table(0, 2, (0, 1))]
+['| 0', '0 | 1', '0 | 1', True]
+>>> first = table.heaps_of(1)
+>>> [next(first), next(first), next(first), list(table_of(late).heaps_of(2))]
+[1, 3, 6, []]
+>>> table_of(pair, 4)
+raises TooMany('heaps', 4)
+>>> Table(0, 2, [1, 0])
+raises BadTable('numbers')
+>>> table[-1]
+raises BadSize(-1)
+>>> Table.read("0 0 0 1")
+raises BadText(0, 4)
+>>> Table.read("1 | 0")
+raises BadText(0, 0)
+"""
+
+LOOK_TABLES = """
+>>> from freetakes.look_tables import shows_table
+>>> [shows_table(pair, table), shows_table(pair, Table(0, 2, [0, 1])), shows_table(pair, [0, 1, 0, 1, 2])]
+[True, False, False]
+"""
+
+FREE = """
+>>> from freetakes.free import bars, free, free_among, is_free, least_leave
+>>> found = free(table, Fixed(2))
+>>> [bool(found), found.heap, found.left, bool(free(table, Fixed(6))), is_free(table, Fixed(2, 4, 5))]
+[False, 2, 0, True, True]
+>>> [is_free(table_of(Book.plain(2)), rule) for rule in (Down(0), Down(0, 1, 3), Fixed(3), Fixed(4))]
+[False, True, False, True]
+>>> again = table_of(late)
+>>> [least_leave(again, 1), least_leave(again, 2), least_leave(again, 3), least_leave(again, 1, 1, 2)]
+[2, None, 2, 1]
+>>> endless = bars(again, Fixed(2))
+>>> [[next(endless) for k in range(4)], list(bars(again, Fixed(3)))]
+[[2, 4, 5, 6], [4]]
+>>> [len(free_among(table, Fixed(1), Fixed(2), Down(0))), free(table, Fixed(4)) == free(table, Fixed(4)), found == free(table, Fixed(3))]
+[1, True, False]
+>>> least_leave(table, 0)
+raises BadRule('size')
+>>> free_among(table, Fixed(1), 3)
+raises BadBook(1)
+"""
+
+COMPARE = """
+>>> from freetakes.compare import beside, compare, parted_alone, same_takes, shows_parted
+>>> pair, third = Book(Fixed(1), Fixed(2)), Book(Fixed(1, 1, 3), Fixed(2, 2, 3))
+>>> found = compare(pair, third)
+>>> [bool(found), found.heap, found.first, found.second, parted_alone(pair, third), beside(pair, third)]
+[False, 2, 2, 1, None, (2, 1)]
+>>> one, other = Book(Fixed(1), Fixed(4)), Book(Fixed(1), Fixed(4), Fixed(6))
+>>> [bool(compare(one, other)), same_takes(one, other), beside(one, other.as_table()), parted_alone(one, pair)]
+[True, 6, None, 2]
+>>> [same_takes(Book(Fixed(2)), Book(Fixed(2, 0, 2), Fixed(2, 1, 2))), shows_parted(pair, third, 2, 2, 1), shows_parted(pair, third, 5, 2, 1)]
+[None, True, False]
+"""
+
+
+def steps(block):
+    """The rows of an example: what is run, and what is shown of it."""
+    for part in block.split("\n>>> ")[1:]:
+        run, _, shown = part.strip().partition("\n")
+        yield run, shown
+
+
+def told(run, names):
+    """What is shown of a row that is run with these names."""
+    try:
+        if run.startswith("from ") or " = " in run.partition("(")[0]:
+            exec(run, names)
+            return ""
+        return repr(eval(run, names))
+    except FreeError as error:
+        kind = type(error).__name__
+        fields = ", ".join(repr(getattr(error, field)) for field in FIELDS[kind])
+        return f"raises {kind}({fields})"
+
+
+class Examples(unittest.TestCase):
+    def check(self, block, names, wanted):
+        many = 0
+        for run, shown in steps(block):
+            self.assertEqual(told(run, names), shown, run)
+            many += 1
+        self.assertEqual(many, wanted)
+
+    def test_examples(self):
+        names = {}
+        for block, many in ((RULES, 9), (BOOKS, 10), (TABLES, 17), (LOOK_TABLES, 2), (FREE, 11), (COMPARE, 7)):
+            self.check(block, names, many)
+
+
+if __name__ == "__main__":
+    unittest.main()
