@@ -50,7 +50,8 @@ def free(table, rule):
 
 def is_free(table, rule):
     """Whether the rule is free by the table."""
-    return bool(free(table, rule))
+    ahead, again = barred_marks(table, rule)
+    return not any(ahead) and not any(again)
 
 
 def bars(table, rule, first=0):

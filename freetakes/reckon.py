@@ -1,5 +1,6 @@
 """The reckoning of worths of heaps, by their definition."""
 
+from freetakes.bits import each_nth
 from freetakes.rules import Fixed
 
 
@@ -77,13 +78,3 @@ def sources(book, count):
             bits = bits | (each_nth(rule.modulus, count) << ((rule.rest - rule.start) % rule.modulus))
         early.append(bits)
     return early, later
-
-
-def each_nth(n, count):
-    """The number with the bits 0, n, 2 * n and so on, at least all of these below count."""
-    bits = 1
-    width = n
-    while width < count:
-        bits = bits | (bits << width)
-        width = width * 2
-    return bits

@@ -2,6 +2,7 @@
 
 from math import lcm
 
+from freetakes.again import first_told, least_form, place_of
 from freetakes.bounds import check_size, is_number
 from freetakes.errors import BadNumber, BadTable, BadText, TooMany
 from freetakes.reckon import worths_below
@@ -19,13 +20,8 @@ class Table:
 
     def __init__(self, begin, period, numbers):
         check_parts(begin, period, numbers)
-        told = list(numbers)
-        again = least_period(told[begin:])
-        while begin > 0 and told[begin - 1] == told[begin - 1 + again]:
-            begin = begin - 1
-        self.begin = begin
-        self.period = again
-        self.numbers = tuple(told[:begin + again])
+        self.begin, self.period = least_form(numbers, begin)
+        self.numbers = tuple(numbers[:self.begin + self.period])
 
     @classmethod
     def read(cls, text):
@@ -50,9 +46,7 @@ class Table:
 
     def __getitem__(self, at):
         check_size(at)
-        if at < self.begin:
-            return self.numbers[at]
-        return self.numbers[self.begin + (at - self.begin) % self.period]
+        return self.worth_of(at)
 
     def __call__(self, n):
         """The worth of the heap n."""
@@ -75,11 +69,13 @@ class Table:
         again = [number == worth for number in self.numbers[self.begin:]]
         yield from marked_heaps(ahead, again, first)
 
+    def worth_of(self, n):
+        """The worth of n, any integer from 0 on, also one that is too great for a heap."""
+        return self.numbers[place_of(n, self.begin, self.period)]
+
     def first_worths(self, count):
         """The list of the worths of the heaps 0 to count - 1."""
-        rounds = max(0, count - self.begin) // self.period
-        told = self.numbers + self.numbers[self.begin:] * rounds
-        return list(told[:count])
+        return first_told(self.numbers, self.begin, count)
 
 
 def check_parts(begin, period, numbers):
@@ -92,14 +88,6 @@ def check_parts(begin, period, numbers):
         raise BadTable("numbers")
     if not all([is_number(number, 0, MOST_WORTH) for number in numbers]) or numbers[0] != 0:
         raise BadTable("numbers")
-
-
-def least_period(again):
-    """The least period with which the worths of this list, which come again, come again."""
-    period = 1
-    while again[:period] * (len(again) // period) != again:
-        period = period + 1
-    return period
 
 
 def wrong_place(words):

@@ -1,5 +1,7 @@
 """The examples of the document, each with the value or the error that is shown there, in its order."""
 
+import doctest
+import pathlib
 import unittest
 
 from cases import FIELDS
@@ -101,6 +103,49 @@ raises BadRule('size')
 raises BadBook(1)
 """
 
+LOOK_FREE = """
+>>> from freetakes.look_free import shows_barred, shows_free
+>>> [shows_free(pair, Fixed(6), table), shows_free(pair, Fixed(2), table), shows_free(late, Fixed(6), table)]
+[True, False, False]
+>>> [shows_barred(pair, Fixed(2), table, 2, 0), shows_barred(pair, Fixed(2), table, 3, 1), shows_barred(pair, Fixed(2), table, 2, True)]
+[True, False, False]
+"""
+
+SIZES = """
+>>> from freetakes.sizes import Sizes
+>>> odd, far = Sizes((), (True, False)), Sizes((True, False, False), (True, False, True, False))
+>>> [str(odd), str(far), str(Sizes((False, False, True), (False, True))), 10 ** 20 + 1 in odd, True in odd]
+['(10)', '10(01)', '0(01)', True, False]
+>>> [str(odd & far), str(~odd), str(odd - Sizes.multiples(3)), odd.first_from(4), odd.count_to(10 ** 20), far.is_part_of(odd)]
+['1(0)', '(01)', '(100010)', 5, 50000000000000000000, False]
+>>> Sizes((), [True] + [False] * 30) & Sizes((), [True] + [False] * 36)
+raises TooMany('sizes', 1000)
+>>> Sizes((), ())
+raises BadSizes('again')
+>>> Sizes.read("1(01)")
+raises BadText(0, 0)
+"""
+
+FREE_SIZES = """
+>>> from freetakes.free_sizes import free_sizes, shows_sizes
+>>> few, late = Table(0, 3, (0, 1, 2)), Table(2, 2, (0, 0, 0, 1))
+>>> [str(free_sizes(few)), str(free_sizes(late)), str(free_sizes(late, leave=2)), str(free_sizes(late, 1, 2))]
+['(110)', '(0)', '(10)', '0(01)']
+>>> [shows_sizes(late, 1, 2, 0, Sizes.read("0(01)")), shows_sizes(late, 1, 2, 0, odd), shows_sizes(late, 0, 1, 2, odd)]
+[True, False, True]
+"""
+
+GREATEST = """
+>>> from freetakes.greatest import Greatest, given_back
+>>> wide = Greatest(few)
+>>> [wide.lets(4, 0), (3, 0) in wide, Fixed(4) in wide, Down(0) in wide, Down(0, 1, 3) in wide, (4, True) in wide]
+[True, False, True, False, True, False]
+>>> [list(wide.each_take(5)), wide.many(5), wide.many(10 ** 30), given_back(wide, 7), Greatest(Book.plain(2).as_table()) == wide]
+[[1, 2, 4, 5], 4, 666666666666666666666666666667, [0, 1, 2, 0, 1, 2, 0], True]
+>>> wide.lets(2, 2)
+raises BadSize(2)
+"""
+
 COMPARE = """
 >>> from freetakes.compare import beside, compare, parted_alone, same_takes, shows_parted
 >>> pair, third = Book(Fixed(1), Fixed(2)), Book(Fixed(1, 1, 3), Fixed(2, 2, 3))
@@ -145,8 +190,16 @@ class Examples(unittest.TestCase):
 
     def test_examples(self):
         names = {}
-        for block, many in ((RULES, 9), (BOOKS, 10), (TABLES, 17), (LOOK_TABLES, 2), (FREE, 11), (COMPARE, 7)):
+        for block, many in ((RULES, 9), (BOOKS, 10), (TABLES, 17), (LOOK_TABLES, 2), (FREE, 11), (LOOK_FREE, 3), (SIZES, 7),
+                            (FREE_SIZES, 4), (GREATEST, 5), (COMPARE, 7)):
             self.check(block, names, many)
+
+    def test_readme(self):
+        readme = pathlib.Path(__file__).parent.parent / "README.md"
+        text = readme.read_text(encoding="utf-8").replace("```", "")
+        found = doctest.DocTestParser().get_doctest(text, {}, "README", None, 0)
+        self.assertEqual(doctest.DocTestRunner(verbose=False).run(found).failed, 0)
+        self.assertGreater(len(found.examples), 5)
 
 
 if __name__ == "__main__":

@@ -14,6 +14,10 @@ INTERFACE = {
     "tables": "Table worths table_of",
     "look_tables": "shows_table",
     "free": "Free Barred FreeAnswer free is_free bars least_leave free_among",
+    "look_free": "shows_free shows_barred",
+    "sizes": "Sizes",
+    "free_sizes": "free_sizes shows_sizes",
+    "greatest": "Greatest given_back",
     "compare": "Comparison Alike Parted compare parted_alone beside same_takes shows_parted",
 }
 

@@ -9,8 +9,12 @@ from freetakes.books import Book
 from freetakes.compare import beside, compare, parted_alone, same_takes, shows_parted
 from freetakes.errors import TooMany
 from freetakes.free import bars, free, free_among, least_leave
+from freetakes.free_sizes import free_sizes, shows_sizes
+from freetakes.greatest import Greatest, given_back
+from freetakes.look_free import shows_barred, shows_free
 from freetakes.look_tables import shows_table
-from freetakes.rules import Fixed
+from freetakes.rules import Down, Fixed
+from freetakes.sizes import Sizes
 from freetakes.tables import Table, table_of, worths
 
 LIMIT = 3
@@ -64,6 +68,41 @@ class Speed(unittest.TestCase):
         for call in (compare, parted_alone, beside):
             self.prompt(call, one, other)
             self.prompt(call, one, one)
+
+    def test_size_sets(self):
+        rng = random.Random(3)
+        rows = [[rng.random() < 0.5 for _ in range(500)] for _ in range(4)]
+        one, other = Sizes(rows[0], rows[1]), Sizes(rows[2], rows[3])
+        self.prompt(lambda: [(one & other, one | other, one - other, one ^ other, ~one, one.is_part_of(other)) for _ in range(100)])
+        self.prompt(lambda: [Sizes.read(str(one)) for _ in range(100)])
+        self.prompt(lambda: [(one.count_to(10 ** k), one.first_from(10 ** k), 10 ** k + 1 in one) for k in range(31) for _ in range(100)])
+        walk = one.walk(10 ** 30)
+        self.prompt(lambda: [next(walk) for _ in range(100000)])
+        rare = Sizes([False] * 500, [False] * 499 + [True]).walk(10 ** 30)
+        self.prompt(lambda: [next(rare) for _ in range(10000)])
+
+    def test_free_sizes(self):
+        rng = random.Random(4)
+        for begin, period, modulus in ((399, 1, 1), (200, 200, 2), (0, 400, 5), (340, 60, 6), (100, 100, 3)):
+            table = Table(begin, period, [0] + [rng.randrange(401) for _ in range(begin + period - 1)])
+            for leave in (0, 400):
+                sizes = self.prompt(lambda: [free_sizes(table, 1 % modulus, modulus, leave) for _ in range(100)])[0]
+                self.assertTrue(self.prompt(shows_sizes, table, 1 % modulus, modulus, leave, sizes))
+
+    def test_greatest_books(self):
+        wide = Greatest(great_table(5))
+        self.prompt(lambda: [(wide.many(10 ** k), wide.lets(10 ** k, 0), next(wide.each_take(10 ** k))) for k in range(31)])
+        self.prompt(lambda: [wide.has(book) for book in great_books()])
+        self.prompt(given_back, wide, 300)
+        # All heaps but two have one worth, so that the takes lie far from one another.
+        lone = Greatest(Table(1000, 1000, [0] * 500 + [1] * 2 + [0] * 1498))
+        self.assertEqual(self.prompt(lambda: list(lone.each_take(10 ** 30))), [10 ** 30 - 501, 10 ** 30 - 500])
+
+    def test_looking(self):
+        book = Book.plain(396) | Fixed(1, 0, 4) | Fixed(2, 0, 3)
+        table = table_of(book)
+        self.assertTrue(self.prompt(shows_free, book, Fixed(398), table))
+        self.assertTrue(self.prompt(shows_barred, book, Down(0), table, 397, 0))
 
 
 if __name__ == "__main__":
