@@ -1,5 +1,23 @@
 """Rows that come again: a list or tuple tells the first things, and those from its begin on come again without end."""
 
+from freetakes.bounds import is_number
+from freetakes.errors import BadTable
+
+MOST = 1000
+
+
+def check_row(begin, period, told, part):
+    """Raise BadTable for the first of these values that is wrong.
+
+    They are any values; told must be a list or tuple of begin + period things, and is called part.
+    """
+    if not is_number(begin, 0, MOST):
+        raise BadTable("begin")
+    if not is_number(period, 1, MOST):
+        raise BadTable("period")
+    if not isinstance(told, (list, tuple)) or len(told) != begin + period:
+        raise BadTable(part)
+
 
 def least_form(told, begin):
     """The least period of what comes again, and then the least begin: a pair of this begin and this period."""

@@ -25,3 +25,11 @@ def heaps_by_worth(told):
     for heap, worth in enumerate(told):
         heaps[worth] = heaps[worth] | (1 << heap)
     return heaps
+
+
+def in_any(rows):
+    """The heaps that are in any of these rows of heaps."""
+    heaps = 0
+    for row in rows:
+        heaps = heaps | row
+    return heaps

@@ -67,7 +67,7 @@ def barred_marks(table, rule):
     behind = rule.start + table.begin
     end = behind + lcm(table.period, rule.modulus)
     told = table.first_worths(end)
-    marks = [False] * end
+    marks = [False for _ in range(end)]
     first = rule.start + (rule.rest - rule.start) % rule.modulus
     for heap in range(first, end, rule.modulus):
         marks[heap] = told[heap] == told[rule.left_from(heap)]

@@ -1,6 +1,6 @@
 """The reckoning of worths of heaps, by their definition."""
 
-from freetakes.bits import each_nth
+from freetakes.bits import each_nth, heaps_of_rest, in_any
 from freetakes.rules import Fixed
 
 
@@ -17,14 +17,14 @@ def worths_below(book, count):
     """The list of the worths of the heaps 0 to count - 1.
 
     One worth after the other is given to all heaps that have it. So a heap that still waits for its
-    worth leaves all worths that were given ahead.
+    worth leaves all worths that were given ahead, and has the next one unless it leaves a heap that has it.
     """
     early, later = sources(book, count)
     found = [0] * count
     waiting = (1 << count) - 1
     worth = 0
     while waiting:
-        heaps = heaps_of_next_worth(waiting, early, later)
+        heaps = heaps_apart(waiting, early, later)
         given = 0
         for heap in heaps:
             found[heap] = worth
@@ -34,11 +34,24 @@ def worths_below(book, count):
     return found
 
 
-def heaps_of_next_worth(waiting, early, later):
-    """Those of the waiting heaps (the bits of a number) that have the least worth which was not given.
+def wins_below(book, count):
+    """For each of the heaps 0 to count - 1 whether who is to move wins if whoever takes last loses.
 
-    The least one that waits has it; then each one from which this heap is left has another one; of
-    the other ones again the least one has it, and so on.
+    Lost is the least heap with a take, then always the least one with a take from which no lost heap is left.
+    """
+    early, later = sources(book, count)
+    taking = in_any([heaps_of_rest(rule.rest, rule.modulus, rule.start, count) for rule in book.rules])
+    found = [True] * count
+    for heap in heaps_apart(taking, early, later):
+        found[heap] = False
+    return found
+
+
+def heaps_apart(waiting, early, later):
+    """Those of the waiting heaps (the bits of a number) from which none of them is left.
+
+    The least one that waits is one of them, and each one from which it is left is none; of the other
+    ones again the least one is one of them, and so on.
     """
     heaps = []
     heap = -1

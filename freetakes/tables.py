@@ -1,11 +1,10 @@
 """Tables of worths: the worths of the first heaps, and those that come again behind them."""
 
-from math import lcm
-
-from freetakes.again import first_told, least_form, place_of
+from freetakes.again import check_row, first_told, least_form, place_of
 from freetakes.bounds import check_size, is_number
-from freetakes.errors import BadNumber, BadTable, BadText, TooMany
+from freetakes.errors import BadNumber, BadTable, BadText
 from freetakes.reckon import worths_below
+from freetakes.search import come_again
 from freetakes.walks import marked_heaps
 from freetakes.words import number_of
 
@@ -19,7 +18,9 @@ class Table:
     MOST = 1000
 
     def __init__(self, begin, period, numbers):
-        check_parts(begin, period, numbers)
+        check_row(begin, period, numbers, "numbers")
+        if not all([is_number(number, 0, MOST_WORTH) for number in numbers]) or numbers[0] != 0:
+            raise BadTable("numbers")
         self.begin, self.period = least_form(numbers, begin)
         self.numbers = tuple(numbers[:self.begin + self.period])
 
@@ -78,18 +79,6 @@ class Table:
         return first_told(self.numbers, self.begin, count)
 
 
-def check_parts(begin, period, numbers):
-    """Raise BadTable for the first of these values that is wrong."""
-    if not is_number(begin, 0, Table.MOST):
-        raise BadTable("begin")
-    if not is_number(period, 1, Table.MOST):
-        raise BadTable("period")
-    if not isinstance(numbers, (list, tuple)) or len(numbers) != begin + period:
-        raise BadTable("numbers")
-    if not all([is_number(number, 0, MOST_WORTH) for number in numbers]) or numbers[0] != 0:
-        raise BadTable("numbers")
-
-
 def wrong_place(words):
     """The index of the first of these words that cannot stand in a table, or their number if one lacks; else None."""
     many = 0
@@ -118,30 +107,5 @@ def table_of(book, most=1000):
     """The table of a book, if its begin and period are not above most together."""
     if not is_number(most, 1, Table.MOST):
         raise BadNumber(most)
-    told = worths_below(book, 2 * most)
-    period = fitting_period(told, most)
-    if period is not None:
-        table = Table(most - period, period, told[:most])
-        end = end_of_looking(book, table)
-        if table.first_worths(end) == worths_below(book, end):
-            return table
-    raise TooMany("heaps", most)
-
-
-def fitting_period(told, most):
-    """The least period of 2 * most worths that comes, with its begin, to at most most; None if there is none.
-
-    It alone has to be tried: each other such period is a multiple of it, since both come again often
-    enough here to have a common measure that fits, too; and where it fails further on, its multiples
-    fail as well.
-    """
-    for period in range(1, most + 1):
-        if told[most - period:2 * most - period] == told[most:]:
-            return period
-    return None
-
-
-def end_of_looking(book, table):
-    """The heap below which a table must be right to be the book's: behind it, all heaps are like earlier ones."""
-    behind = table.begin + book.reach
-    return max(int(book.start), behind) + lcm(table.period, book.modulus)
+    begin, period, numbers = come_again(book, most, worths_below)
+    return Table(begin, period, numbers)

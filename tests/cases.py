@@ -6,9 +6,11 @@ from freetakes import errors
 from freetakes.books import Book
 from freetakes.errors import BadRule, BadText, FreeError
 from freetakes.greatest import Greatest
+from freetakes.losing import LastTable
 from freetakes.rules import Down, Fixed
 from freetakes.sizes import Sizes
 from freetakes.tables import Table
+from freetakes.winners import Kept
 
 BIG = 10 ** 30
 
@@ -27,7 +29,7 @@ def no_integers():
         None, True, False, "", "0", "1", "400", "fixed 1", "down 0", "| 0", "a\nb", "x" * 2000, (), (0,), (1, 2),
         [], [0], [1, [2, (3, {})]], {}, {0: 1}, {"size": [1]}, Fixed(1), Fixed(4, 1, 3, 2), Down(0), Book(),
         Book(Fixed(1)), Table(0, 1, [0]), Sizes.every(), Sizes((False,), (True, False)), Greatest(Table(0, 2, [0, 1])),
-        BadRule("size"), BadText(0, 0),
+        LastTable(0, 2, [True, False]), Kept(Fixed(1)), BadRule("size"), BadText(0, 0),
     ]
 
 

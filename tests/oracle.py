@@ -61,6 +61,40 @@ def table(rules, most=30000):
     return None
 
 
+def wins(rules, count, last_loses=False):
+    """For the heaps 0 to count - 1 whether who is to move wins: by all plays, or, if last_loses, those of the other game."""
+    found = []
+    for n in range(count):
+        behind = [found[k] for k in lefts(rules, n)]
+        found.append(not all(behind) if behind else last_loses)
+    return found
+
+
+def last_table(rules, most=30000):
+    """As table, for the truths of the game in which whoever takes last loses."""
+    reach = max([rule.size for rule in rules if isinstance(rule, Fixed)], default=0)
+    start = max([rule.start for rule in rules], default=0)
+    modulus = math.lcm(*[rule.modulus for rule in rules])
+    for count in (500, 3000, most):
+        found = wins(rules, count, True)
+        states = {}
+        for n in range(max(start, reach), count):
+            state = (n % modulus, tuple(found[n - reach:n]))
+            if state in states:
+                return least_form(found, states[state], n - states[state])
+            states[state] = n
+    return None
+
+
+def needed(rules, rule, n, found):
+    """The worth for which the rule is needed at the heap n, by the worths found of it and all lesser ones, or None."""
+    if not stands(rule, n) or found[left(rule, n)] > found[n]:
+        return None
+    worth = found[left(rule, n)]
+    others = [found[left(one, n)] for one in rules if stands(one, n) and place(one) != place(rule)]
+    return None if worth in others else worth
+
+
 def place(rule):
     """The place of a rule in the order of rules."""
     if isinstance(rule, Fixed):

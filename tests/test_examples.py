@@ -146,6 +146,22 @@ GREATEST = """
 raises BadSize(2)
 """
 
+NEEDLESS = """
+>>> from freetakes.books import Book
+>>> from freetakes.needless import fewest, is_least, least_book, needed_at, needless, serving, shows_needed
+>>> from freetakes.rules import Down, Fixed
+>>> book = Book(Fixed(1), Fixed(2), Fixed(4), Fixed(5))
+>>> [[str(rule) for rule in needless(book)], needed_at(book, Fixed(2)), needed_at(book, Fixed(4)), is_least(book)]
+[['fixed 4', 'fixed 5'], (2, 0), None, False]
+>>> [[str(rule) for rule in serving(book, 5, 0)], str(least_book(book)), shows_needed(book, Fixed(1), 4, 0)]
+[['fixed 2', 'fixed 5'], 'fixed 1, fixed 2', False]
+>>> halves = Book(Fixed(1, 1, 4), Fixed(1, 3, 4), Down(0, 1, 2))
+>>> [len(needless(halves)), str(least_book(halves)), str(fewest(halves))]
+[3, 'fixed 1 rest 1 of 4, fixed 1 rest 3 of 4', 'down 0 rest 1 of 2']
+>>> needed_at(book, Fixed(3))
+raises NotIn(Fixed(3))
+"""
+
 COMPARE = """
 >>> from freetakes.compare import beside, compare, parted_alone, same_takes, shows_parted
 >>> pair, third = Book(Fixed(1), Fixed(2)), Book(Fixed(1, 1, 3), Fixed(2, 2, 3))
@@ -159,6 +175,33 @@ COMPARE = """
 [None, True, False]
 """
 
+WINNERS = """
+>>> from freetakes.winners import keeps_winners, lost_heaps, shows_turned
+>>> third = Book(Fixed(1, 1, 3), Fixed(2, 2, 3)).as_table()
+>>> [third[n] for n in range(6)]
+[0, 1, 1, 0, 1, 1]
+>>> [bool(keeps_winners(third, Fixed(1, 2, 3))), bool(keeps_winners(third, Down(0, 1, 3)))]
+[True, True]
+>>> turned = keeps_winners(third, Fixed(3))
+>>> [bool(turned), turned.heap, turned.left, shows_turned(third, Fixed(3), 9, 6)]
+[False, 3, 0, True]
+>>> [heap for heap in lost_heaps(Book(Down(0)).as_table())]
+[0]
+"""
+
+LOSING = """
+>>> from freetakes.losing import LastTable, last_loses, saving_takes, shows_last
+>>> last = last_loses(pair)
+>>> [last.begin, last.period, last.truths, str(last), last[4], last[10 ** 30]]
+[0, 3, (True, False, True), '| 101', False, False]
+>>> [str(last_loses(Book(Down(0)))), str(last_loses(Book(Fixed(1, leave=2)))), str(LastTable(2, 2, [True, False, True, False]))]
+['1 | 0', '11 | 10', '| 10']
+>>> [saving_takes(pair, last, 5), saving_takes(pair, last, 4), saving_takes(pair, last, 0), shows_last(pair, LastTable(0, 2, (True, False)))]
+[(1,), (), (), False]
+>>> LastTable(0, 1, [False])
+raises BadTable('truths')
+"""
+
 
 def steps(block):
     """The rows of an example: what is run, and what is shown of it."""
@@ -167,31 +210,37 @@ def steps(block):
         yield run, shown
 
 
-def told(run, names):
-    """What is shown of a row that is run with these names."""
-    try:
-        if run.startswith("from ") or " = " in run.partition("(")[0]:
-            exec(run, names)
-            return ""
-        return repr(eval(run, names))
-    except FreeError as error:
-        kind = type(error).__name__
-        fields = ", ".join(repr(getattr(error, field)) for field in FIELDS[kind])
-        return f"raises {kind}({fields})"
+def run_row(run, names):
+    """The value of a row that is run with these names, None of one that binds names."""
+    if run.startswith("from ") or " = " in run.partition("(")[0]:
+        return exec(run, names)
+    return eval(run, names)
 
 
 class Examples(unittest.TestCase):
+    def check_error(self, run, names, shown):
+        kind, _, fields = shown.removeprefix("raises ").partition("(")
+        with self.assertRaises(FreeError, msg=run) as caught:
+            run_row(run, names)
+        error = caught.exception
+        self.assertEqual(type(error).__name__, kind, run)
+        self.assertEqual([getattr(error, field) for field in FIELDS[kind]], eval(f"[{fields[:-1]}]", names), run)
+
     def check(self, block, names, wanted):
         many = 0
         for run, shown in steps(block):
-            self.assertEqual(told(run, names), shown, run)
+            if shown.startswith("raises "):
+                self.check_error(run, names, shown)
+            else:
+                got = run_row(run, names)
+                self.assertEqual(repr(got) if shown else "", shown, run)
             many += 1
         self.assertEqual(many, wanted)
 
     def test_examples(self):
         names = {}
         for block, many in ((RULES, 9), (BOOKS, 10), (TABLES, 17), (LOOK_TABLES, 2), (FREE, 11), (LOOK_FREE, 3), (SIZES, 7),
-                            (FREE_SIZES, 4), (GREATEST, 5), (COMPARE, 7)):
+                            (FREE_SIZES, 4), (GREATEST, 5), (NEEDLESS, 9), (COMPARE, 7), (WINNERS, 7), (LOSING, 6)):
             self.check(block, names, many)
 
     def test_readme(self):

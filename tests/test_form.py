@@ -18,6 +18,9 @@ INTERFACE = {
     "sizes": "Sizes",
     "free_sizes": "free_sizes shows_sizes",
     "greatest": "Greatest given_back",
+    "needless": "serving needed_at needless is_least least_book fewest shows_needed",
+    "winners": "WinnersAnswer Kept Turned keeps_winners shows_turned lost_heaps",
+    "losing": "LastTable last_loses saving_takes shows_last",
     "compare": "Comparison Alike Parted compare parted_alone beside same_takes shows_parted",
 }
 
@@ -105,6 +108,7 @@ class Form(unittest.TestCase):
         for name, tree in trees().items():
             calls = [node.func.id for node in ast.walk(tree) if isinstance(node, ast.Call) and isinstance(node.func, ast.Name)]
             known = set(defined(tree)) | BUILTINS | {"cls"}
+            known |= {node.arg for node in ast.walk(tree) if isinstance(node, ast.arg)}
             known |= {alias.name for node in tree.body if isinstance(node, ast.ImportFrom) for alias in node.names}
             self.assertLessEqual(set(calls), known, name)
             for node in ast.walk(tree):

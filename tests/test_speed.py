@@ -13,9 +13,12 @@ from freetakes.free_sizes import free_sizes, shows_sizes
 from freetakes.greatest import Greatest, given_back
 from freetakes.look_free import shows_barred, shows_free
 from freetakes.look_tables import shows_table
+from freetakes.losing import last_loses, shows_last
+from freetakes.needless import fewest, is_least, least_book, needed_at, needless, serving, shows_needed
 from freetakes.rules import Down, Fixed
 from freetakes.sizes import Sizes
 from freetakes.tables import Table, table_of, worths
+from freetakes.winners import keeps_winners, lost_heaps
 
 LIMIT = 3
 
@@ -103,6 +106,37 @@ class Speed(unittest.TestCase):
         table = table_of(book)
         self.assertTrue(self.prompt(shows_free, book, Fixed(398), table))
         self.assertTrue(self.prompt(shows_barred, book, Down(0), table, 397, 0))
+
+    def test_needed_rules(self):
+        books = [Book.plain(396) | Fixed(1, 0, 4) | Fixed(2, 0, 3), Book(Fixed(1), *[Fixed(400, rest, 6) for rest in range(6)]), *great_books()]
+        for book in books:
+            for call in (needless, is_least, least_book, fewest):
+                self.prompt(call, book)
+            self.prompt(needed_at, book, book.rules[-1])
+            self.prompt(serving, book, 10 ** 30, 0)
+            self.prompt(shows_needed, book, book.rules[0], 20000, 0)
+            last = self.prompt(last_loses, book)
+            if last is not None:
+                self.assertTrue(self.prompt(shows_last, book, last))
+
+    def test_small_books(self):
+        rng = random.Random(6)
+        small = []
+        while len(small) < 100:
+            book = Book.of(oracle.random_rules(rng, rng.randint(0, 6), 12, 12))
+            rows = oracle.table(book.rules)
+            if rows is not None and sum(rows[:2]) <= 40:
+                small.append(book)
+        for call in (needless, is_least, least_book, fewest, last_loses):
+            begin = time.process_time()
+            for book in small:
+                call(book)
+            self.assertLess((time.process_time() - begin) / len(small), 0.002, call)
+
+    def test_winners(self):
+        table = great_table(7)
+        self.prompt(lambda: [keeps_winners(table, rule) for book in great_books()[:2] for rule in book.rules])
+        self.prompt(lambda: [next(lost_heaps(table, 10 ** k)) for k in range(30)])
 
 
 if __name__ == "__main__":
