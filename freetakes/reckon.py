@@ -19,14 +19,13 @@ def worths_below(book, count):
     One worth after the other is given to all heaps that have it. So a heap that still waits for its
     worth leaves all worths that were given ahead, and has the next one unless it leaves a heap that has it.
     """
-    early, later = sources(book, count)
+    early, later = strangers(book, count)
     found = [0] * count
     waiting = (1 << count) - 1
     worth = 0
     while waiting:
-        heaps = heaps_apart(waiting, early, later)
         given = 0
-        for heap in heaps:
+        for heap in heaps_apart(waiting, early, later):
             found[heap] = worth
             given = given | (1 << heap)
         waiting = waiting ^ given
@@ -39,7 +38,7 @@ def wins_below(book, count):
 
     Lost is the least heap with a take, then always the least one with a take from which no lost heap is left.
     """
-    early, later = sources(book, count)
+    early, later = strangers(book, count)
     taking = in_any([heaps_of_rest(rule.rest, rule.modulus, rule.start, count) for rule in book.rules])
     found = [True] * count
     for heap in heaps_apart(taking, early, later):
@@ -55,23 +54,29 @@ def heaps_apart(waiting, early, later):
     """
     heaps = []
     heap = -1
+    many = len(early)
+    turn = len(later)
     while waiting:
         step = (waiting & -waiting).bit_length()
-        waiting = waiting >> step
         heap = heap + step
         heaps.append(heap)
-        leaving = early[heap] if heap < len(early) else later[heap % len(later)]
-        waiting = waiting & ~leaving
+        waiting = (waiting >> step) & (early[heap] if heap < many else later[heap % turn])
     return heaps
 
 
-def sources(book, count):
-    """From which heaps a heap is left: bit k stands for the heap that is k + 1 greater.
+def strangers(book, count):
+    """From which greater heaps a heap is not left: bit k stands for the heap that is k + 1 greater.
 
     The first list has such bits for the least heaps, up to the greatest leave and place of the book;
     the second one has them for all other heaps, by the rest of the book's modulus. Bits for heaps
-    from count on may lack.
+    from count on may be wrong.
     """
+    early, later = sources(book, count)
+    return [~bits for bits in early], [~bits for bits in later]
+
+
+def sources(book, count):
+    """From which greater heaps a heap is left, in the same form as strangers."""
     by_leave = {}
     by_place = {}
     for rule in book.rules:

@@ -5,7 +5,7 @@ from math import lcm
 from freetakes.again import first_told, least_form
 from freetakes.errors import TooMany
 
-# So many heaps are enough for most small books.
+# Up to so many heaps small books have their begin and period together.
 FEW = 50
 MORE = 250
 
@@ -29,10 +29,13 @@ def come_again(book, most, tell):
 
 
 def halves(book, most):
-    """The numbers up to which begin and period are looked for together: the last one, most, decides."""
-    # Where the rules do not stand early, what they tell does not come again early.
+    """The numbers up to which begin and period are looked for together: the last one, most, decides.
+
+    The other ones let small books be answered soon, and cost little beside the last one.
+    """
+    # Where the rules do not stand early, what they tell hardly comes again early.
     late = int(book.start) + book.reach
-    return [*[half for half in (FEW, MORE) if late <= half and 2 * half <= most], most]
+    return [*[half for half in (FEW, MORE) if late <= half and 4 * half <= most], most]
 
 
 def fitting_period(told, half):

@@ -73,7 +73,7 @@ class Pairs(Case):
     def test_other_values_are_not_in_it(self):
         wide = Greatest(Table(1, 1, [0, 1]))
         self.exactly([(1, 0) in wide, (2, 1) in wide, (10 ** 39, 0) in wide], [True, False, True])
-        for thing in [*no_integers(), 0, 1, (), (1,), (1, 0, 0), [1, 0], ((1, 0),), (0, 0), (1, 1), (0, 1), (1, 2), (1, -1), (-1, -2), (-1, 0),
+        for thing in [*no_integers(), 0, 1, (), (1,), (1, 0, 0), [1, 0], ((1, 0),), (0, 0), (1, 1), (0, 1), (1, 2), (0, -1), (1, -1), (-1, -2), (-1, 0),
                       (True, 0), (1, False), (1, None), (None, 0), ("1", 0), (1, "0"), (2, True), ([1], 0), {1: 0}, wide, wide.table]:
             if not isinstance(thing, (Fixed, Down)):
                 self.exactly(thing in wide, False)
