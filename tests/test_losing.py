@@ -183,6 +183,10 @@ class LastLoses(Case):
         for size in (198, 199, 200, 201, 300, 301):
             book = Book(Fixed(size, leave=400))
             self.check(book, 400, 2 * size, (True,) * (400 + size) + (False,) * size)
+            if size <= 300:
+                self.assertEqual(last_loses(book), last_loses(book, 1000))
+            else:
+                self.raised("TooMany", ["heaps", 1000], last_loses, book)
         self.check(Book(Down(400)), 401, 1, (True,) * 401 + (False,))
         self.check(Book(Fixed(1, leave=399)), 399, 2, (True,) * 400 + (False,))
 

@@ -129,6 +129,13 @@ class TableOf(Case):
         for size in (199, 200, 201, 250, 300, 301):
             book = Book(Fixed(size, leave=400))
             self.check(book, 400, 2 * size, (0,) * (400 + size) + (1,) * size)
+            if size <= 300:
+                self.assertEqual([table_of(book), book.as_table()], [table_of(book, 1000)] * 2)
+                self.exactly(book(400 + size), 1)
+            else:
+                self.raised("TooMany", ["heaps", 1000], table_of, book)
+                self.raised("TooMany", ["heaps", 1000], book.as_table)
+                self.raised("TooMany", ["heaps", 1000], book, 0)
 
     def test_the_modulus_plays_no_part(self):
         for book in (Book(Fixed(1, 0, 3), Fixed(1, 1, 3), Fixed(1, 2, 3)), Book(Fixed(1, 0, 6), Fixed(1))):
