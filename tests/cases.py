@@ -7,6 +7,10 @@ from freetakes.books import Book
 from freetakes.errors import BadRule, BadText, FreeError
 from freetakes.greatest import Greatest
 from freetakes.losing import LastTable
+from freetakes.made import Made, Unmade
+from freetakes.matches import Match
+from freetakes.piles import Pile, Plain
+from freetakes.positions import Position
 from freetakes.rules import Down, Fixed
 from freetakes.sizes import Sizes
 from freetakes.tables import Table
@@ -30,6 +34,7 @@ def no_integers():
         [], [0], [1, [2, (3, {})]], {}, {0: 1}, {"size": [1]}, Fixed(1), Fixed(4, 1, 3, 2), Down(0), Book(),
         Book(Fixed(1)), Table(0, 1, [0]), Sizes.every(), Sizes((False,), (True, False)), Greatest(Table(0, 2, [0, 1])),
         LastTable(0, 2, [True, False]), Kept(Fixed(1)), BadRule("size"), BadText(0, 0),
+        Made(Book()), Unmade("heap", 2, 0), Pile(1, Book(Fixed(1))), Plain(1), Position(), Position(Plain(3)), Match(Position(Plain(1))),
     ]
 
 

@@ -202,6 +202,65 @@ LOSING = """
 raises BadTable('truths')
 """
 
+MADE = """
+>>> from freetakes.made import Made, Unmade, made, moduli_of, shows_made, shows_unmade, ways
+>>> from freetakes.tables import Table
+>>> step = Table(0, 3, [0, 0, 1])
+>>> [made(step, 1) == Unmade("heap", 2, 0), bool(made(step, 3)), shows_made(step, 3, Book(Fixed(2, 2, 3)))]
+[True, True, True]
+>>> wave = Table(1, 4, [0, 0, 1, 2, 1])
+>>> found = made(wave, 1)
+>>> [bool(found), found.kind, found.heap, found.worth, [str(rule) for rule in ways(wave, 1, 7, 0)], bool(made(wave, 2))]
+[False, 'class', 3, 0, ['fixed 7'], True]
+>>> [shows_unmade(wave, 1, "class", 7, 0), shows_unmade(wave, 1, "heap", 7, 0), shows_unmade(wave, 1, "class", 3, 1)]
+[True, False, False]
+>>> made(Table(0, 31, [0] + [1] * 30), 1)
+raises TooMany('heaps', 30)
+"""
+
+PILES = """
+>>> from freetakes.piles import Pile, Plain
+>>> steps = Book(Fixed(1), Fixed(2))
+>>> pile = Pile(7, steps)
+>>> [pile.its_worth(), list(pile.each_take()), (pile - 2).size, pile // 4, pile % 4, Plain(7).its_worth(), str(Plain(7) - 7)]
+[1, [1, 2], 5, 1, 3, 7, 'plain 0']
+>>> [pile < pile + 1, bool(Pile(0, steps)), Pile(10 ** 30, steps).its_worth(), pile == Pile(7, Book(Fixed(2), Fixed(1)))]
+[True, False, 1, True]
+>>> pile - 3
+raises NoTake(3)
+>>> pile < Plain(9)
+raises BadBook(None)
+"""
+
+POSITIONS = """
+>>> from freetakes.positions import Position
+>>> three = Pile(5, steps) ^ Plain(1) ^ Pile(3, steps)
+>>> [three.its_worth(), three.wins(), list(three.winning()), list(three.moves())]
+[3, True, [(0, 1)], [(0, 1), (0, 2), (1, 1), (2, 1), (2, 2)]]
+>>> [str(three.after((1, 1))), Position().wins(), len(three ^ three), list((Plain(10 ** 20) ^ Plain(3)).winning())]
+['5 by fixed 1, fixed 2 ^ plain 0 ^ 3 by fixed 1, fixed 2', False, 6, [(0, 99999999999999999997)]]
+>>> [pile.size for pile in three]
+[5, 1, 3]
+>>> three.after((1, 2))
+raises NoTake(2)
+"""
+
+MATCHES = """
+>>> from freetakes.matches import Match
+>>> match = Match(Pile(2, steps) ^ Plain(1))
+>>> [match.winner(), list(match.rounds()), match.mover, len(match)]
+[0, [(0, 1), (0, 1), (1, 1)], 0, 0]
+>>> match[1] = 0
+>>> [match.past, match.mover, match.winner(), match.tried(lambda held: held.take(0, 2)), str(match.position)]
+[((1, 1),), 1, 1, None, '2 by fixed 1, fixed 2 ^ plain 0']
+>>> match[0] = 2
+raises NoTake(2)
+>>> [match.back(), len(match)]
+[(1, 1), 0]
+>>> match.back()
+raises Nothing()
+"""
+
 
 def steps(block):
     """The rows of an example: what is run, and what is shown of it."""
@@ -219,12 +278,17 @@ def run_row(run, names):
 
 class Examples(unittest.TestCase):
     def check_error(self, run, names, shown):
-        kind, _, fields = shown.removeprefix("raises ").partition("(")
         with self.assertRaises(FreeError, msg=run) as caught:
             run_row(run, names)
-        error = caught.exception
-        self.assertEqual(type(error).__name__, kind, run)
-        self.assertEqual([getattr(error, field) for field in FIELDS[kind]], eval(f"[{fields[:-1]}]", names), run)
+        error, _, cause = shown.removeprefix("raises ").partition(" from ")
+        self.check_fields(caught.exception, error, names)
+        if cause:
+            self.check_fields(caught.exception.__cause__, cause, names)
+
+    def check_fields(self, error, shown, names):
+        kind, _, fields = shown.partition("(")
+        self.assertEqual(type(error).__name__, kind)
+        self.assertEqual([getattr(error, field) for field in FIELDS[kind]], eval(f"[{fields[:-1]}]", names))
 
     def check(self, block, names, wanted):
         many = 0
@@ -240,7 +304,8 @@ class Examples(unittest.TestCase):
     def test_examples(self):
         names = {}
         for block, many in ((RULES, 9), (BOOKS, 10), (TABLES, 17), (LOOK_TABLES, 2), (FREE, 11), (LOOK_FREE, 3), (SIZES, 7),
-                            (FREE_SIZES, 4), (GREATEST, 5), (NEEDLESS, 9), (COMPARE, 7), (WINNERS, 7), (LOSING, 6)):
+                            (FREE_SIZES, 4), (GREATEST, 5), (NEEDLESS, 9), (COMPARE, 7), (WINNERS, 7), (LOSING, 6), (MADE, 9),
+                            (PILES, 7), (POSITIONS, 6), (MATCHES, 8)):
             self.check(block, names, many)
 
     def test_readme(self):

@@ -21,7 +21,29 @@ INTERFACE = {
     "needless": "serving needed_at needless is_least least_book fewest shows_needed",
     "winners": "WinnersAnswer Kept Turned keeps_winners shows_turned lost_heaps",
     "losing": "LastTable last_loses saving_takes shows_last",
+    "made": "Making Made Unmade made ways moduli_of shows_made shows_unmade",
+    "piles": "Pile Plain",
+    "positions": "Position",
+    "matches": "Match",
     "compare": "Comparison Alike Parted compare parted_alone beside same_takes shows_parted",
+}
+
+PILE = "its_worth each_take lets __eq__ __str__ __bool__ __lt__ __le__ __add__ __sub__ __floordiv__ __mod__ __xor__"
+
+METHODS = {
+    ("rules", "Rule"): "read stands_at left_at taken_at",
+    ("rules", "Fixed"): "stands_at left_at taken_at leaving __eq__ __str__",
+    ("rules", "Down"): "stands_at left_at taken_at __eq__ __str__",
+    ("books", "Book"): "of plain read takes lefts is_part_of as_table __call__ __eq__ __str__ __len__ __bool__ __contains__ __or__ __xor__",
+    ("tables", "Table"): "read heaps_of highest __getitem__ __call__ __eq__ __str__",
+    ("sizes", "Sizes"): "every none multiples read is_part_of first_from walk count_to __invert__ __contains__ __bool__ __eq__ __str__",
+    ("greatest", "Greatest"): "lets has each_take many sizes __contains__ __eq__",
+    ("made", "Made"): "__eq__ __bool__",
+    ("made", "Unmade"): "__eq__ __bool__",
+    ("piles", "Pile"): PILE,
+    ("piles", "Plain"): PILE,
+    ("positions", "Position"): "of its_worth wins moves winning after __len__ __getitem__ __iter__ __xor__ __eq__ __str__",
+    ("matches", "Match"): "position past mover take back winner rounds trial tried __len__ __getitem__ __setitem__",
 }
 
 BUILTINS = set(
@@ -137,6 +159,13 @@ class Form(unittest.TestCase):
         for name, wanted in INTERFACE.items():
             here = {node.name for node in held[name].body if isinstance(node, (ast.FunctionDef, ast.ClassDef))}
             self.assertLessEqual(set(wanted.split()), here, name)
+
+    def test_the_methods_stand_in_their_classes(self):
+        held = trees()
+        for (name, kind), wanted in METHODS.items():
+            body = [node.body for node in held[name].body if isinstance(node, ast.ClassDef) and node.name == kind][0]
+            here = {node.name for node in body if isinstance(node, ast.FunctionDef)}
+            self.assertLessEqual(set(wanted.split()), here, (name, kind))
 
 
 if __name__ == "__main__":

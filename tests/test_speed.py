@@ -14,7 +14,11 @@ from freetakes.greatest import Greatest, given_back
 from freetakes.look_free import shows_barred, shows_free
 from freetakes.look_tables import shows_table
 from freetakes.losing import last_loses, shows_last
+from freetakes.made import made, moduli_of, shows_made, shows_unmade, ways
+from freetakes.matches import Match
 from freetakes.needless import fewest, is_least, least_book, needed_at, needless, serving, shows_needed
+from freetakes.piles import Pile, Plain
+from freetakes.positions import Position
 from freetakes.rules import Down, Fixed
 from freetakes.sizes import Sizes
 from freetakes.tables import Table, table_of, worths
@@ -137,6 +141,42 @@ class Speed(unittest.TestCase):
         table = great_table(7)
         self.prompt(lambda: [keeps_winners(table, rule) for book in great_books()[:2] for rule in book.rules])
         self.prompt(lambda: [next(lost_heaps(table, 10 ** k)) for k in range(30)])
+
+    def test_made_tables(self):
+        rng = random.Random(8)
+        tables = [Table(0, 30, [0, 1, 2, 3, 4, 5] + [6] * 24), Table(29, 1, [0, 1, 2, 3, 4, 5] + [6] * 24), Table(0, 7, list(range(7))),
+                  Table(2, 7, [0, 1, 0, 1, 2, 3, 4, 5, 6])]
+        for begin in (0, 10, 20, 28):
+            tables.append(Table(begin, 30 - begin, [0] + [rng.randint(0, 6) for _ in range(28)] + [5]))
+        for table in tables:
+            self.prompt(moduli_of, table)
+            for modulus in range(1, 7):
+                found = self.prompt(made, table, modulus)
+                if found:
+                    self.assertTrue(self.prompt(shows_made, table, modulus, found.book))
+                self.prompt(lambda: [shows_unmade(table, modulus, kind, heap, 0) for kind in ("heap", "class") for heap in range(130)])
+                self.prompt(lambda: [ways(table, modulus, heap, 0) for heap in range(1, 101) if table[heap]])
+        self.assertTrue(self.prompt(shows_made, Book.plain(400).as_table(), 1, Book.plain(400)))
+
+    def test_positions(self):
+        far = Book.plain(399) | Down(0)
+        piles = [Pile(10 ** 30 - 401 * at, far) for at in range(10)] + [Plain(10 ** 30 - 7 ** at) for at in range(10)]
+        position = self.prompt(Position.of, piles)
+        self.assertTrue(self.prompt(position.wins))
+        moves = self.prompt(lambda: list(position.winning()))
+        self.assertFalse(self.prompt(lambda: [move for move in moves if position.after(move).wins()]))
+        every = position.moves()
+        self.prompt(lambda: [next(every) for _ in range(100000)])
+        self.prompt(lambda: [(pile // 7, pile % 7, pile.lets(10 ** 29), pile - 1, bool(pile)) for pile in piles for _ in range(100)])
+
+    def test_matches(self):
+        match = Match(Position.of([Plain(10 ** 30)] * 10 + [Pile(10 ** 30, Book.plain(400))] * 9 + [Plain(3)]))
+        rounds = match.rounds()
+        self.prompt(lambda: [next(rounds) for _ in range(50)])
+        self.prompt(lambda: [match.take(at, 1) for at in range(20) for _ in range(3)])
+        match[0] = 5
+        self.prompt(lambda: [match.tried(lambda held: [held.back() for _ in range(61)]) for _ in range(50)])
+        self.assertEqual(len(match), 61)
 
 
 if __name__ == "__main__":
