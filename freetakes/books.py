@@ -5,7 +5,7 @@ from math import lcm
 from freetakes.bounds import check_size, is_number
 from freetakes.errors import BadBook, BadNumber, BadText, TooMany
 from freetakes.rules import Fixed, Rule, in_order, rule_of, stands, wrong_word
-from freetakes.tables import table_of
+from freetakes.tables import Table, table_of
 
 MOST_COMMON = 12
 
@@ -33,6 +33,7 @@ class Book:
         self.reach = max([int(rule.size) for rule in unlike if isinstance(rule, Fixed)], default=0)
         self._ranks = {rule.rank: True for rule in unlike}
         self._table = None
+        self._endless = False
 
     @classmethod
     def of(cls, rules):
@@ -103,10 +104,7 @@ class Book:
     def __call__(self, n):
         """The worth of the heap n."""
         check_size(n)
-        # A book never changes, so its table is reckoned once for all heaps that are asked for.
-        if self._table is None:
-            self._table = table_of(self)
-        return self._table[n]
+        return self.own_table()[n]
 
     def takes(self, n):
         """The numbers that can be taken from the heap n, ascending."""
@@ -125,7 +123,18 @@ class Book:
 
     def as_table(self, most=1000):
         """The table of this book."""
-        return table_of(self, most)
+        return self.own_table() if is_number(most, Table.MOST, Table.MOST) else table_of(self, most)
+
+    def own_table(self):
+        """The table of this book, reckoned once, since a book never changes, or the error if it is too great."""
+        if self._table is None and not self._endless:
+            try:
+                self._table = table_of(self)
+            except TooMany:
+                self._endless = True
+        if self._endless:
+            raise TooMany("heaps", Table.MOST)
+        return self._table
 
 
 def book_of(thing):

@@ -4,7 +4,7 @@ from math import lcm
 
 from freetakes.bounds import is_number
 from freetakes.reckon import worths_below
-from freetakes.tables import Table, table_of
+from freetakes.tables import Table
 
 MOST_SHOWN = 20000
 
@@ -95,7 +95,7 @@ def deciding_worths(one, other):
 
 def table_by(thing):
     """The table that a Book or a Table stands for."""
-    return thing if isinstance(thing, Table) else table_of(thing)
+    return thing if isinstance(thing, Table) else thing.as_table()
 
 
 def worths_by(thing, count):

@@ -1,18 +1,17 @@
 """Which worths the rules of a book serve, at which heaps: heaps are the bits of numbers, as far as they decide."""
 
 from freetakes.bits import heaps_by_worth, heaps_of_rest, in_any
-from freetakes.rules import Fixed
+from freetakes.rules import Fixed, stands
 from freetakes.search import end_of_looking
 
 
 class Duties:
-    """What the rules of a book can do for the worths of its heaps. A list by worth has all worths but the greatest.
+    """What the rules of a book can do for the worths of its table. A list by worth has all worths but the greatest.
 
     Behind the heaps that are looked at, all rules serve what they serve at earlier ones.
     """
 
-    def __init__(self, book):
-        table = book.as_table()
+    def __init__(self, book, table):
         self.end = end_of_looking(book, table.begin, table.period)
         self.told = table.first_worths(self.end)
         found = heaps_by_worth(self.told)
@@ -39,9 +38,39 @@ def greater_ones(found):
     return above[::-1]
 
 
-def needed_places(book):
-    """For each rule of the book the least heap at which it is needed and the worth that it serves there, or None."""
-    duties = Duties(book)
+def needed_place(book, table, rule):
+    """The least heap at which the rule of the book is needed and the worth that it serves there, or None."""
+    end = end_of_looking(book, table.begin, table.period)
+    told = table.first_worths(end)
+    others = [other for other in book.rules if other != rule]
+    first = rule.start + (rule.rest - rule.start) % rule.modulus
+    alone = [heap for heap in range(first, end, rule.modulus) if told[rule.left_from(heap)] < told[heap]]
+    # Whoever serves at the first heap that is left is asked for all the other ones.
+    while alone:
+        worth = told[rule.left_from(alone[0])]
+        server = server_at(others, told, alone[0], worth)
+        if server is None:
+            return alone[0], worth
+        alone = [heap for heap in alone if not serves(server, told, heap, told[rule.left_from(heap)])]
+    return None
+
+
+def server_at(rules, told, heap, worth):
+    """The first of the rules that leaves a heap of this worth at the heap; None if none does."""
+    for rule in rules:
+        if serves(rule, told, heap, worth):
+            return rule
+    return None
+
+
+def serves(rule, told, heap, worth):
+    """Whether the rule leaves a heap of this worth at the heap."""
+    return stands(rule, heap) and told[rule.left_from(heap)] == worth
+
+
+def needed_places(book, table):
+    """needed_place of each rule of the book."""
+    duties = Duties(book, table)
     once = [0 for _ in duties.heaps]
     twice = [0 for _ in duties.heaps]
     for rule in book.rules:
@@ -63,12 +92,12 @@ def least_place(served, alone):
     return None
 
 
-def kept_rules(book):
+def kept_rules(book, table):
     """The rules that stay if each one, from the last one on, that is needless among those left is left out.
 
     Such a rule is needed just where neither a rule ahead of it nor a kept one behind it serves what it serves.
     """
-    duties = Duties(book)
+    duties = Duties(book, table)
     firsts = first_heaps(book, duties)
     done = [0 for _ in duties.heaps]
     kept = []
@@ -91,9 +120,9 @@ def first_heaps(book, duties):
     return firsts
 
 
-def fewest_rules(book):
+def fewest_rules(book, table):
     """The fewest rules of the book, by their indexes the least ones, that serve all that must be served."""
-    duties = Duties(book)
+    duties = Duties(book, table)
     served = [duties.served_by(rule) for rule in book.rules]
     rows = [()]
     while True:

@@ -2,7 +2,7 @@
 
 from freetakes.books import Book
 from freetakes.bounds import check_size, is_from, is_number
-from freetakes.duties import fewest_rules, kept_rules, needed_places
+from freetakes.duties import fewest_rules, kept_rules, needed_place, needed_places
 from freetakes.errors import BadNumber, NotIn, TooMany
 from freetakes.reckon import worths_below
 from freetakes.rules import stands
@@ -24,15 +24,12 @@ def needed_at(book, rule):
     """The least heap at which the rule of the book is needed, and the worth that it serves there alone, or None."""
     if rule not in book:
         raise NotIn(rule)
-    for other, place in zip(book.rules, needed_places(book)):
-        if other == rule:
-            return place
-    return None
+    return needed_place(book, book.as_table(), rule)
 
 
 def needless(book):
     """The tuple of the needless rules of the book, in order."""
-    return tuple([rule for rule, place in zip(book.rules, needed_places(book)) if place is None])
+    return tuple([rule for rule, place in zip(book.rules, needed_places(book, book.as_table())) if place is None])
 
 
 def is_least(book):
@@ -42,14 +39,14 @@ def is_least(book):
 
 def least_book(book):
     """The book without the rules that prove needless if they are left out one by one, from the last one on."""
-    return Book.of(kept_rules(book))
+    return Book.of(kept_rules(book, book.as_table()))
 
 
 def fewest(book):
     """The book of the fewest rules of the book that have the same worths; of several those with the least indexes."""
     if len(book) > MOST_RULES:
         raise TooMany("rules", MOST_RULES)
-    return Book.of(fewest_rules(book))
+    return Book.of(fewest_rules(book, book.as_table()))
 
 
 def shows_needed(book, rule, heap, worth):

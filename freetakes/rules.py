@@ -2,7 +2,7 @@
 
 from freetakes.bounds import check_size, is_number
 from freetakes.errors import BadRule, BadText, NoTake
-from freetakes.words import number_of
+from freetakes.words import number_of, wrong_among
 
 
 class Rule:
@@ -181,11 +181,8 @@ def least_modulus(words):
 
 
 def rule_slots(words):
-    """What may stand at each place of a rule that has these words, as far as they are right.
-
-    A slot is a tuple of the words that may stand there, or of the least and the greatest number.
-    """
-    fixed = words[0] == "fixed"
+    """The slots of a rule that has these words, as far as they are right."""
+    fixed = words[:1] == ["fixed"]
     slots = [("fixed", "down"), (1 if fixed else 0, Rule.MOST)]
     if words[2:3] == ["rest"]:
         modulus = (least_modulus(words), Rule.MOST_MODULUS)
@@ -195,20 +192,9 @@ def rule_slots(words):
     return slots
 
 
-def fits(word, slot):
-    """Whether the word may stand in this slot."""
-    if isinstance(slot[0], str):
-        return word in slot
-    return number_of(word, slot[0], slot[1]) is not None
-
-
 def wrong_word(words):
     """The index of the first of these words that cannot stand in a rule, or their number if one lacks; else None."""
-    slots = rule_slots(words)
-    for at, word in enumerate(words):
-        if at >= len(slots) or not fits(word, slots[at]):
-            return at
-    return len(words) if len(words) < len(slots) else None
+    return wrong_among(words, rule_slots(words))
 
 
 def rule_of(words):

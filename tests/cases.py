@@ -4,8 +4,10 @@ import unittest
 
 from freetakes import errors
 from freetakes.books import Book
+from freetakes.desk import Desk
 from freetakes.errors import BadRule, BadText, FreeError
 from freetakes.greatest import Greatest
+from freetakes.keeper import Keeper
 from freetakes.losing import LastTable
 from freetakes.made import Made, Unmade
 from freetakes.matches import Match
@@ -35,6 +37,7 @@ def no_integers():
         Book(Fixed(1)), Table(0, 1, [0]), Sizes.every(), Sizes((False,), (True, False)), Greatest(Table(0, 2, [0, 1])),
         LastTable(0, 2, [True, False]), Kept(Fixed(1)), BadRule("size"), BadText(0, 0),
         Made(Book()), Unmade("heap", 2, 0), Pile(1, Book(Fixed(1))), Plain(1), Position(), Position(Plain(3)), Match(Position(Plain(1))),
+        Keeper(Book()), Desk(),
     ]
 
 
@@ -63,6 +66,16 @@ class Case(unittest.TestCase):
             got = getattr(error, name)
             self.assertIs(type(got), type(wanted), (kind, name, got, args, named))
             self.assertTrue(got is wanted or got == wanted, (kind, name, got, wanted, args, named))
+
+    def raised_from(self, kind, fields, cause, told, call, *args, **named):
+        """As raised, and check that the error has a cause of just this class with just these fields."""
+        self.raised(kind, fields, call, *args, **named)
+        try:
+            call(*args, **named)
+        except FreeError as error:
+            found = error.__cause__
+        self.assertIs(type(found), getattr(errors, cause))
+        self.exactly([getattr(found, name) for name in FIELDS[cause]], list(told))
 
     def exactly(self, got, wanted):
         """Check for equal values of equal kinds, also within lists and tuples."""

@@ -261,6 +261,21 @@ raises NoTake(2)
 raises Nothing()
 """
 
+KEEPER = """
+>>> from freetakes.books import Book
+>>> from freetakes.keeper import Keeper
+>>> from freetakes.rules import Down, Fixed
+>>> keeper = Keeper(Book(Fixed(1), Fixed(2)))
+>>> [keeper.add(Fixed(4)), keeper.add(Fixed(4)), len(keeper), [str(rule) for rule in keeper.fill(5)], keeper.log]
+[True, False, 3, ['fixed 5'], ('add fixed 4', 'fill 1')]
+>>> keeper.add(Fixed(3))
+raises NotFree(Fixed(3)) from Meets(3, 0)
+>>> keeper.drop(Fixed(1))
+raises Needed(Fixed(1)) from Lacks(1, 0)
+>>> [[str(rule) for rule in keeper.thin()], str(keeper.now), keeper.undo(), len(keeper), keeper.limit]
+[['fixed 4', 'fixed 5'], 'fixed 1, fixed 2', None, 4, 40]
+"""
+
 
 def steps(block):
     """The rows of an example: what is run, and what is shown of it."""
@@ -305,7 +320,7 @@ class Examples(unittest.TestCase):
         names = {}
         for block, many in ((RULES, 9), (BOOKS, 10), (TABLES, 17), (LOOK_TABLES, 2), (FREE, 11), (LOOK_FREE, 3), (SIZES, 7),
                             (FREE_SIZES, 4), (GREATEST, 5), (NEEDLESS, 9), (COMPARE, 7), (WINNERS, 7), (LOSING, 6), (MADE, 9),
-                            (PILES, 7), (POSITIONS, 6), (MATCHES, 8)):
+                            (PILES, 7), (POSITIONS, 6), (MATCHES, 8), (KEEPER, 8)):
             self.check(block, names, many)
 
     def test_readme(self):

@@ -7,10 +7,12 @@ import unittest
 import oracle
 from freetakes.books import Book
 from freetakes.compare import beside, compare, parted_alone, same_takes, shows_parted
-from freetakes.errors import TooMany
+from freetakes.desk import Desk
+from freetakes.errors import FreeError, TooMany
 from freetakes.free import bars, free, free_among, least_leave
 from freetakes.free_sizes import free_sizes, shows_sizes
 from freetakes.greatest import Greatest, given_back
+from freetakes.keeper import Keeper
 from freetakes.look_free import shows_barred, shows_free
 from freetakes.look_tables import shows_table
 from freetakes.losing import last_loses, shows_last
@@ -19,9 +21,11 @@ from freetakes.matches import Match
 from freetakes.needless import fewest, is_least, least_book, needed_at, needless, serving, shows_needed
 from freetakes.piles import Pile, Plain
 from freetakes.positions import Position
+from freetakes.reader import read
 from freetakes.rules import Down, Fixed
 from freetakes.sizes import Sizes
 from freetakes.tables import Table, table_of, worths
+from freetakes.texts import write_book, write_position, write_sizes, write_table
 from freetakes.winners import keeps_winners, lost_heaps
 
 LIMIT = 3
@@ -177,6 +181,51 @@ class Speed(unittest.TestCase):
         match[0] = 5
         self.prompt(lambda: [match.tried(lambda held: [held.back() for _ in range(61)]) for _ in range(50)])
         self.assertEqual(len(match), 61)
+
+    def tried(self, call, *args):
+        """What the call returns, None if it raises an error of the package."""
+        try:
+            return call(*args)
+        except FreeError:
+            return None
+
+    def test_keepers(self):
+        few = Keeper(Book.plain(100), limit=400)
+        self.assertEqual(self.prompt(lambda: len([size for size in range(1, 401) if self.tried(few.add, Fixed(size))])), 297)
+        self.assertEqual(len(self.prompt(few.thin)), 297)
+        few.undo()
+        self.prompt(lambda: [self.tried(few.drop, rule) for rule in few.now.rules])
+        self.prompt(lambda: [few.undo() for _ in few.log])
+        self.assertEqual(few.now, Book.plain(100))
+        full = Keeper(Book.plain(400), limit=400)
+        self.prompt(lambda: [self.tried(full.drop, rule) for rule in full.now.rules])
+        self.prompt(lambda: [self.tried(full.exchange, rule, Fixed(400, leave=1)) for rule in full.now.rules])
+        self.prompt(full.thin)
+        long = Keeper(Book(Fixed(1), *[Fixed(400, rest, 6) for rest in range(6)]), limit=400)
+        self.prompt(lambda: [self.tried(long.add, Fixed(size, rest, 6)) for size in range(1, 101) for rest in range(6)])
+        self.prompt(lambda: [self.tried(long.fill, 400, rest, 6) for rest in range(6)])
+        self.prompt(lambda: [self.tried(long.drop, rule) for rule in long.now.rules])
+        self.prompt(long.thin)
+
+    def test_texts(self):
+        rng = random.Random(9)
+        book = Book.of(oracle.many_rules(400))
+        sizes = Sizes([rng.random() < 0.5 for _ in range(500)], [rng.random() < 0.5 for _ in range(500)])
+        position = Position.of([Pile(10 ** 30, book)] * 20)
+        for thing, write in ((book, write_book), (great_table(10), write_table), (sizes, write_sizes), (position, write_position)):
+            self.assertEqual(self.prompt(lambda: read(write(thing))), thing)
+        self.prompt(lambda: [self.tried(read, text * 300) for text in ("book\n", "table 1000 1000\n0 ", "sizes\n+|", "position\nplain 1\n")])
+
+    def test_desks(self):
+        desk = Desk()
+        self.prompt(desk.run, *[f"add fixed {size}" for size in range(1, 401)], *["pile 1000000", "plain 1000000"] * 10)
+        self.prompt(desk.run, *[f"take {at} {k}" for at in range(20) for k in range(1, 31)])
+        self.prompt(desk.run, *["wins", "winning", "table", "sizes 0 1", "worth 1000000", "free down 0"] * 100)
+        self.prompt(desk.run, *["needless", "least", "book", "piles"] * 3)
+        self.prompt(desk.run, *["back"] * 1000)
+        endless = Desk()
+        endless.run("add fixed 400", "add fixed 399", "add fixed 7 rest 0 of 4", "add fixed 1 rest 1 of 3", "pile 1000000")
+        self.assertEqual(set(self.prompt(endless.run, *["wins", "worth 3", "needless", "free fixed 1"] * 100)), {"refused TooMany"})
 
 
 if __name__ == "__main__":
