@@ -2,6 +2,12 @@
 
 from freetakes.bits import each_nth, heaps_of_rest, in_any
 from freetakes.rules import Fixed
+from freetakes.windows import Windows
+
+# From when on windows cost less: what they cost ahead grows with the rules, and with the heaps up to the first one.
+MANY = 1000
+FOR_RULE = 8
+FOR_HEAP = 2
 
 
 def least_missing(worths):
@@ -14,7 +20,30 @@ def least_missing(worths):
 
 
 def worths_below(book, count):
-    """The list of the worths of the heaps 0 to count - 1.
+    """The list of the worths of the heaps 0 to count - 1."""
+    if count < MANY or not windows_pay(book, count):
+        return worths_together(book, count)
+    windows = Windows(book, worths_together(book, first_window(book)))
+    while len(windows.found) < count:
+        windows.add_window()
+    return windows.found[:count]
+
+
+def windows_pay(book, count):
+    """Whether so many heaps are reckoned sooner by windows than all together."""
+    spare = count - MANY - FOR_RULE * len(book.rules)
+    return spare >= 0 and spare >= FOR_HEAP * first_window(book)
+
+
+def first_window(book):
+    """The least heap from which on windows are right: see Windows."""
+    places = [rule.leave if isinstance(rule, Fixed) else rule.to for rule in book.rules]
+    heap = max([int(place) for place in places], default=0) + 1 + book.reach
+    return heap + -heap % book.modulus
+
+
+def worths_together(book, count):
+    """The list of the worths of the heaps 0 to count - 1, reckoned all together.
 
     One worth after the other is given to all heaps that have it. So a heap that still waits for its
     worth leaves all worths that were given ahead, and has the next one unless it leaves a heap that has it.
@@ -67,32 +96,36 @@ def heaps_apart(waiting, early, later):
 def strangers(book, count):
     """From which greater heaps a heap is not left: bit k stands for the heap that is k + 1 greater.
 
-    The first list has such bits for the least heaps, up to the greatest leave and place of the book;
-    the second one has them for all other heaps, by the rest of the book's modulus. Bits for heaps
-    from count on may be wrong.
+    The first list has such bits for the least heaps, up to the greatest leave and place of the book
+    that is below count; the second one has them for all other heaps below count, by the rest of the
+    book's modulus. Bits for heaps from count on may be wrong.
     """
-    early, later = sources(book, count)
-    return [~bits for bits in early], [~bits for bits in later]
-
-
-def sources(book, count):
-    """From which greater heaps a heap is left, in the same form as strangers."""
-    by_leave = {}
-    by_place = {}
-    for rule in book.rules:
-        if isinstance(rule, Fixed):
-            by_leave.setdefault(rule.leave, []).append(rule)
-        else:
-            by_place.setdefault(rule.to, []).append(rule)
+    by_leave, by_place, last = rules_by_place(book)
     early = []
     later = [0] * book.modulus
-    for heap in range(max([int(place) for place in [*by_leave, *by_place]], default=-1) + 1):
-        for rule in by_leave.get(heap, []):
-            for rest in range(book.modulus):
-                if (rest + rule.size) % rule.modulus == rule.rest:
-                    later[rest] = later[rest] | (1 << (rule.size - 1))
+    for heap in range(min(int(count), last + 1)):
+        for rule in by_leave.get(heap, ()):
+            for rest in range((rule.rest - rule.size) % rule.modulus, book.modulus, rule.modulus):
+                later[rest] = later[rest] | (1 << (rule.size - 1))
         bits = later[heap % book.modulus]
-        for rule in by_place.get(heap, []):
+        for rule in by_place.get(heap, ()):
             bits = bits | (each_nth(rule.modulus, count) << ((rule.rest - rule.start) % rule.modulus))
-        early.append(bits)
-    return early, later
+        early.append(~bits)
+    return early, [~bits for bits in later]
+
+
+def rules_by_place(book):
+    """The Fixed rules by their leave, the Down ones by the heap that they leave, and the greatest of these heaps."""
+    by_leave = {}
+    by_place = {}
+    last = -1
+    for rule in book.rules:
+        if isinstance(rule, Fixed):
+            place = rule.leave
+            by_leave.setdefault(place, []).append(rule)
+        else:
+            place = rule.to
+            by_place.setdefault(place, []).append(rule)
+        if last < place:
+            last = place
+    return by_leave, by_place, last

@@ -89,6 +89,19 @@ def docstrings(tree):
     return {id(node.body[0].value) for node in holders if node.body and isinstance(node.body[0], ast.Expr)}
 
 
+def is_plain(node):
+    """Whether this is plainly a number or a list of numbers: written out, or by a call that gives one."""
+    if isinstance(node, ast.Call) and isinstance(node.func, ast.Name) and node.func.id == "set":
+        return is_plain(node.args[0])
+    if isinstance(node, ast.ListComp):
+        return is_plain(node.elt)
+    if isinstance(node, ast.BinOp):
+        return is_plain(node.left) and is_plain(node.right)
+    if isinstance(node, ast.Call):
+        return isinstance(node.func, ast.Name) and node.func.id in ("int", "len", "ord")
+    return isinstance(node, ast.Constant) and isinstance(node.value, int)
+
+
 class Form(unittest.TestCase):
     def test_files(self):
         for path in files():
@@ -166,6 +179,13 @@ class Form(unittest.TestCase):
                         self.assertNotIn("%", node.value, name)
                         if id(node) not in notes:
                             self.assertFalse(set(node.value.split()) & {"type", "typing", "enum"}, name)
+
+    def test_what_is_compared_is_plainly_numbers(self):
+        """Piles have an order, so no list of objects can be taken for one of numbers (L5)."""
+        for name, tree in trees().items():
+            for node in ast.walk(tree):
+                if isinstance(node, ast.Call) and isinstance(node.func, ast.Name) and node.func.id in ("sorted", "min", "max"):
+                    self.assertTrue(any(is_plain(arg) for arg in node.args), (name, node.lineno))
 
     def test_the_interface_stands_in_its_files(self):
         held = trees()
